@@ -72,6 +72,8 @@ func meantList(t api.Tree, l []api.Sig, bound map[string]api.Term) (api.Term, ap
 	switch {
 	case head == "let":
 		return meantLet(t, l, bound)
+	case slices.Contains(others, head):
+		return api.Term{}, api.ErrName
 	case isBound:
 		return api.Term{}, api.ErrForm
 	case !isOperator && !isSig:

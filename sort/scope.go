@@ -85,8 +85,11 @@ func (s scope) list(kids ...api.Tree) (api.Term, api.Errno) {
 	if op := operator(head); op != none {
 		return s.operation(op, rest...)
 	}
-	if head == binder {
+	switch {
+	case head == binder:
 		return s.let(rest...)
+	case alone(head): // also where a Sig has that name: it isn't asked for
+		return api.Term{}, api.ErrName
 	}
 	if _, is := s.binds(head); is {
 		return api.Term{}, api.ErrForm

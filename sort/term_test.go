@@ -109,8 +109,31 @@ func TestWordsAsSigs(t *testing.T) {
 	for s, want := range map[string]api.Term{"true": yes(), "false": no(), "Int": apply("Int", api.SInt), "let": apply("let", api.SInt), "and": apply("and", api.SInt), "(+ + <)": sum(apply("+", api.SInt), apply("<", api.SInt)), "(let ((a +)) a)": apply("+", api.SInt)} {
 		checkTerm(t, s, read(t, s), l, want, api.OK)
 	}
-	for s, want := range map[string]api.Errno{"(and)": api.ErrArgs, "(+)": api.ErrArgs, "(let)": api.ErrForm, "(let 5)": api.ErrForm, "(and +)": api.ErrSort} {
+	for s, want := range map[string]api.Errno{"(and)": api.ErrArgs, "(+)": api.ErrArgs, "(let)": api.ErrForm, "(let 5)": api.ErrForm, "(and +)": api.ErrSort, "(true)": api.ErrName, "(false)": api.ErrName, "(Int)": api.ErrName, "(Bool)": api.ErrName, "(let ((a (Int))) a)": api.ErrName} {
 		checkTerm(t, s, read(t, s), l, api.Term{}, want)
+	}
+}
+
+// TestWordsThatBeginNoList: a List that begins with one of these words is ErrName
+// ahead of all that its other kids err in, whatever is declared by it.
+func TestWordsThatBeginNoList(t *testing.T) {
+	for _, head := range []string{"true", "false", "Int", "Bool"} {
+		x, p := signature("x", api.SInt), signature("p", api.SBool)
+		for i, l := range [][]api.Sig{
+			{x, p}, {x, p, signature(head, api.SBool)}, {x, p, signature(head, api.SInt, api.SInt)}, {signature(head, api.SBool, api.SBool), x, p, signature(head, api.SInt)}, {signature(head, 9), x, p}, {x, p, signature(head, api.SInt, api.SInt, api.SBool, api.SInt)},
+		} {
+			for _, s := range []string{
+				"(W)", "(W x)", "(W p)", "(W x p)", "(W x p x)", "(W ())", "(W w)", "(W (+ x p))", "(W W)", "(W (W))", "(W " + strings.Repeat("9", 361) + ")", "(W :k (div x 0))",
+				"(not (W))", "(+ (W x) x)", "(- (W) ())", "(ite (W p) w (f p))", "(let ((a (W x))) a)", "(let ((a 1)) (W a))", "(let ((a 1) (b (W))) w)", "(abs (abs (W x)))",
+			} {
+				in := strings.ReplaceAll(s, "W", head)
+				checkTerm(t, in+", row "+string(rune('0'+i)), read(t, in), l, api.Term{}, api.ErrName)
+			}
+			for s, e := range map[string]api.Errno{"((W) x)": api.ErrForm, "(:W x)": api.ErrForm, "(+ x p (W))": api.ErrName, "(+ (+ x p) (W))": api.ErrSort, "(+ () (W))": api.ErrForm, "(let ((W x)) x)": api.ErrName, "(let ((a (+))) (W))": api.ErrArgs, "(let ((a 1)) (a W))": api.ErrForm} {
+				in := strings.ReplaceAll(s, "W", head)
+				checkTerm(t, in+", row "+string(rune('0'+i)), read(t, in), l, api.Term{}, e)
+			}
+		}
 	}
 }
 

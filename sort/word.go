@@ -46,4 +46,7 @@ func operator(s string) int {
 	return none
 }
 
+// alone tells whether s is a word that begins no List.
+func alone(s string) bool { return s == yes || s == no || s == integer || s == truth }
+
 func word(text string) api.Token { return api.Token{Kind: api.TSymbol, Text: text} }
