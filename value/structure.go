@@ -5,6 +5,7 @@ import (
 	"strings"
 
 	"mullion/api"
+	"mullion/own"
 	"mullion/term"
 )
 
@@ -32,10 +33,10 @@ func (m structure) of(s api.Sig, values ...api.Value) api.Value {
 	}
 	for _, row := range m[at].Rows {
 		if slices.EqualFunc(row.Args, values, Same) {
-			return own(row.V)
+			return own.Value(row.V)
 		}
 	}
-	return own(m[at].Else)
+	return own.Value(m[at].Else)
 }
 
 // worth takes any t.
@@ -49,7 +50,7 @@ func (m structure) worth(t api.Term) api.Value {
 func (m structure) term(t api.Term) api.Value {
 	switch t.Op {
 	case api.ONum:
-		return own(api.Value{Sort: api.SInt, N: t.N})
+		return api.Value{Sort: api.SInt, N: own.Int(t.N)}
 	case api.OTrue, api.OFalse:
 		return truth(t.Op == api.OTrue)
 	}
@@ -75,4 +76,12 @@ func (m structure) terms(terms ...api.Term) []api.Value {
 
 func sameSig(a, b api.Sig) bool {
 	return a.Name == b.Name && slices.Equal(a.Args, b.Args) && a.Ret == b.Ret
+}
+
+func sorts(all ...api.Value) []int {
+	var out []int
+	for _, v := range all {
+		out = append(out, v.Sort)
+	}
+	return out
 }
