@@ -2,6 +2,7 @@ package lift
 
 import (
 	"mullion/api"
+	"mullion/hold"
 	"mullion/own"
 	"mullion/term"
 	"mullion/whole"
@@ -9,10 +10,9 @@ import (
 
 // lifting is what has been made on the way through a term.
 type lifting struct {
+	hold.Terms
 	next      int
-	held      []api.Term
 	constants []constant
-	refused   bool // term's Make has erred
 }
 
 type constant struct {
@@ -25,7 +25,7 @@ type constant struct {
 func lifted(t api.Term, next int) (api.Term, lifting) {
 	l := lifting{next: next}
 	if term.Is(t) {
-		if out := l.term(t); !l.refused {
+		if out := l.term(t); !l.Refused {
 			return own.Term(out), l
 		}
 	}
@@ -55,16 +55,16 @@ func (l *lifting) terms(all ...api.Term) []api.Term {
 // chosen gives the constant that stands for t, a choice between numbers.
 func (l *lifting) chosen(t api.Term) api.Term {
 	v, is, first, second := l.constant(t), t.Kids[0], t.Kids[1], t.Kids[2]
-	l.hold(l.of(api.ONot, is), l.of(api.OEq, v, first))
-	l.hold(is, l.of(api.OEq, v, second))
+	l.hold(l.Of(api.ONot, is), l.Of(api.OEq, v, first))
+	l.hold(is, l.Of(api.OEq, v, second))
 	return v
 }
 
 // size gives the constant that stands for t, an absolute value.
 func (l *lifting) size(t api.Term) api.Term {
 	v, n, nought := l.constant(t), t.Kids[0], term.Num(whole.Of(0))
-	l.hold(l.of(api.OLt, n, nought), l.of(api.OEq, v, n))
-	l.hold(l.of(api.OGe, n, nought), l.of(api.OEq, v, l.of(api.OSub, n)))
+	l.hold(l.Of(api.OLt, n, nought), l.Of(api.OEq, v, n))
+	l.hold(l.Of(api.OGe, n, nought), l.Of(api.OEq, v, l.Of(api.OSub, n)))
 	return v
 }
 
@@ -77,18 +77,7 @@ func (l *lifting) constant(t api.Term) api.Term {
 }
 
 // hold keeps that one of however many is to hold.
-func (l *lifting) hold(terms ...api.Term) { l.held = append(l.held, l.of(api.OOr, terms...)) }
-
-// of gives what op makes of however many kids. Once one was refused it makes none
-// any more.
-func (l *lifting) of(op int, kids ...api.Term) api.Term {
-	if l.refused {
-		return api.Term{}
-	}
-	out, e := term.Make(op, kids)
-	l.refused = e != api.OK
-	return out
-}
+func (l *lifting) hold(terms ...api.Term) { l.Add(l.Of(api.OOr, terms...)) }
 
 func choice(t api.Term) bool { return t.Op == api.OIte && t.Sort == api.SInt }
 
